@@ -1,0 +1,1 @@
+"""Drillrow: recolouring calls on a row of people."""
