@@ -37,10 +37,15 @@ def run_call(call, row):
     return recolour_one(row, kind, source, target)
 
 
+def run_calls(drill, row):
+    """Return the row after a valid drill; for those who run it often, without the checks."""
+    for call in drill:
+        row = run_call(call, row)
+    return row
+
+
 def run_drill(drill, row):
     """Return the row after the drill."""
     check_drill(drill)
     check_row(row)
-    for call in drill:
-        row = run_call(call, row)
-    return row
+    return run_calls(drill, row)

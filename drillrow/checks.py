@@ -1,6 +1,6 @@
 """The checks of the arguments that the functions of the package share."""
 
-from drillrow.errors import BadCall, BadColour, BadCounts, BadRow
+from drillrow.errors import BadCall, BadColour, BadCounts, BadRow, BadTimes
 
 # A tuple, not a string: the empty string and "ab" are in "abcdef" as well.
 COLOURS = ("a", "b", "c", "d", "e", "f")
@@ -51,3 +51,9 @@ def check_colour(colour):
     """Raise BadColour with the string if it is not a colour."""
     if not is_colour(colour):
         raise BadColour(colour)
+
+
+def check_times(times):
+    """Raise BadTimes with the number of repetitions if it is negative."""
+    if times < 0:
+        raise BadTimes(times)

@@ -1,5 +1,6 @@
 """What several tests use: a slow model of calls, invalid arguments and drawn samples."""
 
+import itertools
 import random
 
 COLOURS = "abcdef"
@@ -35,6 +36,9 @@ INVALID_CALLS = [
     (1, "g", "g"),
 ]
 
+# What may not stand in a row.
+WRONG_CHARACTERS = "gzAF01`- \n"
+
 VALID_CALLS = [(1, "a", "b"), ("all", "b", "c"), ("swap", "e", "f"), (20, "f", "a")]
 
 
@@ -45,6 +49,15 @@ def drills_with_one_fault():
         pairs.append(([call], 0))
         for index in (0, 2, len(VALID_CALLS)):
             pairs.append((VALID_CALLS[:index] + [call] + VALID_CALLS[index:], index))
+    return pairs
+
+
+def rows_with_one_fault():
+    """Return pairs (row, index of its only wrong character): first, middle and last index."""
+    pairs = []
+    for wrong in WRONG_CHARACTERS:
+        for index in range(7):
+            pairs.append(("abcdef"[:index] + wrong + "abcdef"[index:], index))
     return pairs
 
 
@@ -69,6 +82,25 @@ def model_drill(drill, row):
     for call in drill:
         row = model_call(call, row)
     return row
+
+
+def model_walk(drill, row):
+    """Return the rows after 0, 1, 2 .. runs until one occurs again, and the first index of that one."""
+    rows = []
+    while row not in rows:
+        rows.append(row)
+        row = model_drill(drill, row)
+    return rows, rows.index(row)
+
+
+def rows_of(length, colours):
+    """Return every row of these colours with this length, in string order."""
+    return ["".join(row) for row in itertools.product(sorted(colours), repeat=length)]
+
+
+def rows_up_to(length, colours):
+    """Return every row of these colours with at most this length, shorter ones first."""
+    return [row for size in range(length + 1) for row in rows_of(size, colours)]
 
 
 def draw_call(chance, colours, highest):

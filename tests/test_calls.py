@@ -125,6 +125,8 @@ class Drills(unittest.TestCase):
 
     def test_a_long_drill(self):
         self.assertEqual(run_drill([(1, "a", "b"), (1, "b", "a")] * 5000, "aab"), "aab")
+        for many in (8, 9, 59, 60, 2000):
+            self.assertEqual(run_drill([(1, "a", "b")] * many, "a" * 60), ("b" * many + "a" * 60)[:60])
 
     def test_samples_against_the_model(self):
         for drill, row in draw_samples("calls", 1500):

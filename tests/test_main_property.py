@@ -6,14 +6,12 @@ import unittest
 
 from drillrow.calls import run_drill
 from drillrow.counts import colour_after, count_colours, run_on_counts
-from tests.samples import COLOURS, draw_samples
+from drillrow.cycles import repeat_drill
+from tests.samples import COLOURS, draw_samples, rows_up_to
 
 RUNS = 4
-
-
-def rows_up_to(length, colours):
-    """Return every row of these colours with at most this length."""
-    return ["".join(row) for size in range(length + 1) for row in itertools.product(colours, repeat=size)]
+# Far beyond every row's way into its cycle.
+MANY_RUNS = [10 ** 9, 10 ** 29, 10 ** 30 - 1, 10 ** 30 - 2, 10 ** 30 - 7]
 
 
 def run_times(drill, row, times):
@@ -82,13 +80,27 @@ class OthersInTheRow(unittest.TestCase):
                     self.assertEqual(run_times(drill, row[:index], times), after[:index])
                     self.assertEqual(run_times(drill, row[:index] + "fa", times)[:index], after[:index])
 
+    def test_after_very_many_runs(self):
+        chance = random.Random("very many")
+        for drill, row in draw_samples("far ahead", 60):
+            if row:
+                index = chance.randrange(len(row))
+                ahead = "".join(chance.sample(row[:index], index))
+                for times in MANY_RUNS:
+                    one = repeat_drill(drill, row, times)
+                    other = repeat_drill(drill, ahead + row[index:], times)
+                    self.assertEqual(one[index:], other[index:], (drill, row, ahead))
+                    self.assertEqual(repeat_drill(drill, row[:index], times), one[:index])
+
 
 class OneMorePerson(unittest.TestCase):
     def assert_one_more(self, drill, row, index, colour):
         longer = row[:index] + colour + row[index:]
-        for times in range(RUNS):
-            without = run_times(drill, row, times)
-            with_one = run_times(drill, longer, times)
+        for times in [*range(RUNS), *MANY_RUNS]:
+            # Few runs are made one by one, so that this does not hang on repeat_drill alone.
+            repeat = run_times if times < RUNS else repeat_drill
+            without = repeat(drill, row, times)
+            with_one = repeat(drill, longer, times)
             for end in range(index, len(row) + 1):
                 few, many = count_colours(without[:end]), count_colours(with_one[:end + 1])
                 more = sorted(many[k] - few[k] for k in range(6))
