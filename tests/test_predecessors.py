@@ -127,6 +127,12 @@ class AgainstEveryRow(unittest.TestCase):
                 for length in range(4):
                     self.assert_counts([(kind, source, target)], length)
 
+    def test_equal_calls_in_a_row(self):
+        for call in [(1, "a", "b"), (2, "a", "b"), (3, "b", "a"), ("all", "a", "b"), ("swap", "a", "b")]:
+            for times in (2, 3, 4):
+                self.assert_counts([call] * times, 4)
+                self.assert_counts([(1, "b", "c")] + [call] * times + [(2, "c", "a"), call], 4)
+
     def test_drawn_drills_on_rows_of_three(self):
         chance = random.Random("three")
         for _ in range(40):
